@@ -50,7 +50,13 @@ func (r *Reader) Number() int {
 	return int(n)
 }
 
-func (r *Reader) Text() string { return string(r.take(r.Number())) }
+func (r *Reader) Text() string { return string(r.Bytes()) }
+
+// Bytes tells a text's bytes, as they stand in what is read.
+func (r *Reader) Bytes() []byte {
+	n := r.Number()
+	return r.take(n)
+}
 
 // Items goes through a list: whoever does reads one item each time.
 func (r *Reader) Items() iter.Seq[int] {
