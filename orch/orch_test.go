@@ -451,6 +451,20 @@ func TestP1302CrashAsks(t *testing.T) {
 	}
 }
 
+// One that has a fault is gone past, those behind it are not.
+func TestP1302CrashAsksBehindAFault(t *testing.T) {
+	o := submitted(t, roomy, nil, "var x 0 proc main { x := 1 / x }", "proc main { do a }", "proc main { do b }")
+	o.Step(1, 0)
+	o.Step(2, 0)
+	told(t, "the fault", o.Step(0, 0), api.Zero, 0, 0)
+	o.Crash(math.MaxInt)
+	o.Deliver(0)
+	o.Deliver(0)
+	if got := fmt.Sprint(o.Applied()); got != "[{a 100000 0} {b 200000 0}]" || o.Flight() != 2 {
+		t.Errorf("P1302: %s", state(o))
+	}
+}
+
 func TestP1301Snapshot(t *testing.T) {
 	s := "var x 0 proc main { do a -> x; x := x + 1; do b }"
 	o := submitted(t, roomy, []int{5}, s, "proc main { do c }")

@@ -234,12 +234,10 @@ func TestP1NoSuchStack(t *testing.T) {
 	for _, s := range []list{nil, {}, {nil}, {row(1), row(2)}} {
 		for _, at := range []int{-1, 2, 3, 1 << 62, -1 << 63} {
 			was := fmt.Sprint(s)
-			stacks.Push(s, at, do(1))
-			stacks.Reverse(s, at)
-			stacks.Accept(s, at)
-			stacks.Merge(s, at, 0)
-			stacks.Merge(s, 0, at)
-			stacks.Merge(s, at, at)
+			_, reversed := stacks.Reverse(s, at)
+			for _, got := range []list{stacks.Push(s, at, do(1)), reversed, stacks.Accept(s, at), stacks.Merge(s, at, 0), stacks.Merge(s, 0, at), stacks.Merge(s, at, at)} {
+				spoil(got)
+			}
 			if fmt.Sprint(s) != was {
 				t.Fatalf("P2: %v is changed", was)
 			}

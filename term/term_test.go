@@ -334,7 +334,7 @@ func TestP1AnyTerm(t *testing.T) {
 		term.Right(x, r.Intn(4)-1, r.Intn(4)-1, r.Intn(4)-1)
 		term.Size(x)
 		term.Same(x, y)
-		term.Norm(x)
+		spoil(term.Norm(x))
 		term.Waits(x)
 		if !same(x, was) {
 			t.Fatalf("P2: %v is changed", was)
